@@ -1,0 +1,1 @@
+"""Figures of seven strokes on a panel some of whose strokes are broken."""
