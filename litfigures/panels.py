@@ -11,15 +11,23 @@ def ten_to(power):
     return worth
 
 
-def worths(panel):
-    return [ten_to(len(panel) - 1 - k) for k in range(len(panel))]
+def worths(places):
+    return [ten_to(places - 1 - k) for k in range(places)]
+
+
+def check_number(number, places):
+    if number < 0 or number >= ten_to(places):
+        # The number stays out of the words: Python refuses to write out a very great one.
+        raise NoNumber("there are too few places for this number, or it is below 0")
+
+
+def figures_of(number, places):
+    return [number // worth % 10 for worth in worths(places)]
 
 
 def shown(number, panel):
-    if number < 0 or number >= ten_to(len(panel)):
-        # The number stays out of the words: Python refuses to write out a very great one.
-        raise NoNumber("the panel has too few places for this number, or it is below 0")
-    return [seen(number // worth % 10, place) for worth, place in zip(worths(panel), panel)]
+    check_number(number, len(panel))
+    return [seen(figure, place) for figure, place in zip(figures_of(number, len(panel)), panel)]
 
 
 def lengthened(heads, lasts):
@@ -49,7 +57,7 @@ def alike(panel):
     # places but the foremost one at which two alike numbers differ keep them alike, keep
     # the lesser one lesser, and make neither greater.
     pairs = []
-    for worth, place in zip(worths(panel), panel):
+    for worth, place in zip(worths(len(panel)), panel):
         pair = alike_figures(place)
         if pair is not None:
             pairs.append((pair[0] * worth, pair[1] * worth))
